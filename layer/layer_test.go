@@ -1,0 +1,85 @@
+package layer
+
+import (
+	"bytes"
+	"math"
+	"math/bits"
+	"math/rand"
+	"slices"
+	"sort"
+	"testing"
+
+	"strata/bitrow"
+)
+
+func TestWidth(t *testing.T) {
+	for _, c := range []struct {
+		values []uint64
+		want   int
+	}{
+		{nil, 0},
+		{[]uint64{0, 0}, 0},
+		{[]uint64{0, 1}, 1},
+		{[]uint64{5, 2, 5}, 3},
+		{[]uint64{7, 8, 1}, 4},
+		{[]uint64{1 << 62}, 63},
+		{[]uint64{1 << 63, 1}, 64},
+		{[]uint64{math.MaxUint64}, 64},
+	} {
+		if got := Width(c.values); got != c.want {
+			t.Errorf("Width(%v) = %d, want %d", c.values, got, c.want)
+		}
+	}
+}
+
+func TestRowExamples(t *testing.T) {
+	for _, c := range []struct {
+		values []uint64
+		width  int
+		want   []byte
+	}{
+		{nil, 0, nil},
+		{[]uint64{0, 0, 0}, 0, nil},
+		{[]uint64{5, 2, 5}, 3, []byte{205, 0}},
+		{[]uint64{1 << 63}, 64, []byte{1, 0, 0, 0, 0, 0, 0, 0}},
+		{[]uint64{1}, 1, []byte{1}},
+	} {
+		if got := Row(c.values, c.width).Bytes(); !bytes.Equal(got, c.want) {
+			t.Errorf("layers of %v = %v, want %v", c.values, got, c.want)
+		}
+	}
+}
+
+// bySorting makes each layer on its own: the order at a bit is the one that the
+// bits above it, read from the lowest to the highest, sort the values into.
+func bySorting(values []uint64, width int) []byte {
+	var row []bool
+	for bit := width - 1; bit >= 0; bit-- {
+		order := slices.Clone(values)
+		sort.SliceStable(order, func(a, b int) bool {
+			return bits.Reverse64(order[a]>>(bit+1)) < bits.Reverse64(order[b]>>(bit+1))
+		})
+		for _, v := range order {
+			row = append(row, v&(1<<bit) != 0)
+		}
+	}
+	return bitrow.Of(row).Bytes()
+}
+
+func TestRowDrawn(t *testing.T) {
+	r := rand.New(rand.NewSource(3))
+	for round := range 260 {
+		values := make([]uint64, r.Intn(201))
+		for i := range values {
+			values[i] = r.Uint64() >> (round % 65)
+		}
+		was := slices.Clone(values)
+		width := Width(values)
+		if got := Row(values, width).Bytes(); !bytes.Equal(got, bySorting(values, width)) {
+			t.Fatalf("layers of %v = %v", values, got)
+		}
+		if !slices.Equal(values, was) {
+			t.Fatalf("the values were written into: %v, not %v", values, was)
+		}
+	}
+}

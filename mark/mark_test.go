@@ -1,0 +1,127 @@
+package mark
+
+import (
+	"bytes"
+	"math"
+	"math/rand"
+	"slices"
+	"testing"
+)
+
+func TestFit(t *testing.T) {
+	for _, c := range []struct {
+		marks []int
+		n     int
+		want  bool
+	}{
+		{nil, 0, true},
+		{nil, 5, true},
+		{[]int{0}, 0, false},
+		{[]int{0}, 1, true},
+		{[]int{0, 4}, 5, true},
+		{[]int{0, 1, 2, 3, 4}, 5, true},
+		{[]int{5}, 5, false},
+		{[]int{0, 5}, 5, false},
+		{[]int{-1}, 5, false},
+		{[]int{2, -1}, 5, false},
+		{[]int{2, 2}, 5, false},
+		{[]int{0, 0}, 5, false},
+		{[]int{3, 1}, 5, false},
+		{[]int{math.MinInt}, 5, false},
+		{[]int{math.MaxInt}, 5, false},
+		{[]int{math.MaxInt, math.MinInt}, 5, false},
+	} {
+		if got := Fit(c.marks, c.n); got != c.want {
+			t.Errorf("Fit(%v, %d) = %v", c.marks, c.n, got)
+		}
+	}
+}
+
+func TestLowBits(t *testing.T) {
+	if q := lowBits(0, 200); q != 0 {
+		t.Errorf("q of no marks = %d", q)
+	}
+	for n := 1; n <= 200; n++ {
+		for m := 1; m <= n; m++ {
+			q := lowBits(m, n)
+			if q < 0 || m<<q > n || m<<(q+1) <= n {
+				t.Errorf("q of %d marks among %d = %d", m, n, q)
+			}
+		}
+	}
+}
+
+func TestRowExamples(t *testing.T) {
+	for _, c := range []struct {
+		marks []int
+		n     int
+		want  []byte
+	}{
+		{nil, 0, []byte{0}},
+		{nil, 6, []byte{0}},
+		{nil, 7, []byte{0}},
+		{nil, 8, []byte{0, 0}},
+		{[]int{1}, 3, []byte{3}},
+		{[]int{0}, 1, []byte{1}},
+		{[]int{0, 2}, 3, []byte{9}},
+		{[]int{7}, 8, []byte{15}},
+		{[]int{0, 1, 2, 3}, 4, []byte{85, 0}},
+		// q is 7: the bits 1110001, then 1 + 1 + 1, of which 1 is 1.
+		{[]int{199}, 200, []byte{1 + 2 + 4 + 64, 1}},
+		// q is 6: twice six bits, then 2 + 3 + 1, of which 0 and 3 + 1 are 1.
+		{[]int{0, 199}, 200, []byte{7 << 6 & 255, 7>>2 + 1<<4, 1}},
+	} {
+		if got := Row(c.marks, c.n).Bytes(); !bytes.Equal(got, c.want) {
+			t.Errorf("marks %v of %d = %v, want %v", c.marks, c.n, got, c.want)
+		}
+	}
+}
+
+// readBack tells the marks and how many bits it looked at, by what the
+// document says of their bytes.
+func readBack(row []byte, n int, m int) ([]int, int) {
+	bit := func(k int) int { return int(row[k/8]) >> (k % 8) & 1 }
+	q := 0
+	for m > 0 && m<<(q+1) <= n {
+		q++
+	}
+	count := m*q + m + n/(1<<q) + 1
+	var marks []int
+	for k := m * q; k < count; k++ {
+		if bit(k) == 0 {
+			continue
+		}
+		i := len(marks)
+		p := (k - m*q - i) << q
+		for low := range q {
+			p += bit(i*q+low) << low
+		}
+		marks = append(marks, p)
+	}
+	return marks, count
+}
+
+func TestRowDrawn(t *testing.T) {
+	r := rand.New(rand.NewSource(5))
+	for round := range 600 {
+		n := r.Intn(201)
+		var marks []int
+		for p := range n {
+			if r.Intn(1+round%60) == 0 {
+				marks = append(marks, p)
+			}
+		}
+		was := slices.Clone(marks)
+		row := Row(marks, n).Bytes()
+		got, count := readBack(row, n, len(marks))
+		if len(row) != (count+7)/8 || !slices.Equal(got, was) {
+			t.Fatalf("marks %v of %d = %v: that is %v", was, n, row, got)
+		}
+		if last := count % 8; last != 0 && row[len(row)-1]>>last != 0 {
+			t.Fatalf("marks %v of %d = %v: what is left of the last byte is not 0", was, n, row)
+		}
+		if !slices.Equal(marks, was) {
+			t.Fatalf("the marks were written into: %v, not %v", marks, was)
+		}
+	}
+}
