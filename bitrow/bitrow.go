@@ -1,25 +1,84 @@
-// Package bitrow: rows of bits, kept as the bytes that they are written as.
+// Package bitrow: rows of bits that can tell where their ones and noughts stand.
 package bitrow
 
-import "slices"
+import (
+	"math/bits"
+	"sort"
+)
+
+const wordBits = 64
 
 // Row is a row of bits. It does not change once it is made.
 type Row struct {
-	packed []byte
+	words  []uint64 // one more than is full, so that the row's end is a place in a word, too
+	ahead  []int    // how many ones stand ahead of each word: counted once, asked often
+	length int
 }
 
 // Of makes a row of the bits, the first one numbered 0.
-func Of(bits []bool) Row {
-	packed := make([]byte, (len(bits)+7)/8)
-	for k, bit := range bits {
+func Of(row []bool) Row {
+	words := make([]uint64, len(row)/wordBits+1)
+	for k, bit := range row {
 		if bit {
-			packed[k/8] |= 1 << (k % 8)
+			words[k/wordBits] |= 1 << (k % wordBits)
 		}
 	}
-	return Row{packed: packed}
+	return Row{words: words, ahead: counted(words), length: len(row)}
 }
 
-// Bytes gives the row as bytes: a copy, so that nobody can write into the row.
+// counted gives how many ones stand ahead of each word.
+func counted(words []uint64) []int {
+	ahead := make([]int, len(words))
+	ones := 0
+	for w, word := range words {
+		ahead[w] = ones
+		ones += bits.OnesCount64(word)
+	}
+	return ahead
+}
+
+// Bytes gives the row as bytes, in new memory.
 func (r Row) Bytes() []byte {
-	return slices.Clone(r.packed)
+	out := make([]byte, (r.length+7)/8)
+	for k := range out {
+		out[k] = byte(r.words[k/8] >> (k % 8 * 8))
+	}
+	return out
+}
+
+// Bit tells whether the bit at a place of the row is 1.
+func (r Row) Bit(place int) bool {
+	return r.words[place/wordBits]>>(place%wordBits)&1 == 1
+}
+
+// Ahead tells how many ones stand ahead of a place of the row, or of its end.
+func (r Row) Ahead(place int) int {
+	w := place / wordBits
+	return r.ahead[w] + bits.OnesCount64(r.words[w]&(1<<(place%wordBits)-1))
+}
+
+// One tells where the one numbered k stands, from 0 on; if there are not so
+// many, a place that is not in the row.
+func (r Row) One(k int) int {
+	w := sort.Search(len(r.words), func(w int) bool { return r.ahead[w] > k }) - 1
+	return w*wordBits + oneOf(r.words[w], k-r.ahead[w])
+}
+
+// Zero tells where the nought numbered k stands, from 0 on; if there are not
+// so many, a place that is not in the row.
+func (r Row) Zero(k int) int {
+	w := sort.Search(len(r.words), func(w int) bool { return r.zerosAhead(w) > k }) - 1
+	return w*wordBits + oneOf(^r.words[w], k-r.zerosAhead(w))
+}
+
+func (r Row) zerosAhead(w int) int {
+	return w*wordBits - r.ahead[w]
+}
+
+// oneOf tells where the one numbered k stands in a word; 64, if there is none.
+func oneOf(word uint64, k int) int {
+	for range k {
+		word &= word - 1
+	}
+	return bits.TrailingZeros64(word)
 }

@@ -2,6 +2,7 @@ package bitrow
 
 import (
 	"bytes"
+	"math/rand"
 	"testing"
 )
 
@@ -36,5 +37,70 @@ func TestBytesAreApart(t *testing.T) {
 	got[0] = 99
 	if again := row.Bytes(); !bytes.Equal(again, []byte{5}) {
 		t.Errorf("the bytes that came out are kept: %v", again)
+	}
+}
+
+// rows gives rows of bits around the edges of words, from no ones to all.
+func rows() [][]bool {
+	r := rand.New(rand.NewSource(7))
+	var out [][]bool
+	for _, length := range []int{0, 1, 7, 8, 9, 63, 64, 65, 127, 128, 129, 200, 12800} {
+		for _, often := range []int{0, 1, 8, 15, 16} {
+			row := make([]bool, length)
+			for k := range row {
+				row[k] = r.Intn(16) < often
+			}
+			out = append(out, row)
+		}
+	}
+	return out
+}
+
+func TestBytesDrawn(t *testing.T) {
+	for _, bits := range rows() {
+		want := make([]byte, (len(bits)+7)/8)
+		for k, bit := range bits {
+			if bit {
+				want[k/8] |= 1 << (k % 8)
+			}
+		}
+		if got := Of(bits).Bytes(); !bytes.Equal(got, want) {
+			t.Errorf("bytes of %v = %v, want %v", bits, got, want)
+		}
+	}
+}
+
+func TestBitsAndPlaces(t *testing.T) {
+	for _, bits := range rows() {
+		row := Of(bits)
+		ones, zeros := 0, 0
+		for k, bit := range bits {
+			if got := row.Bit(k); got != bit {
+				t.Fatalf("%d bits: the bit %d is %v", len(bits), k, got)
+			}
+			if got := row.Ahead(k); got != ones {
+				t.Fatalf("%d bits: %d ones ahead of %d, not %d", len(bits), got, k, ones)
+			}
+			if bit {
+				if got := row.One(ones); got != k {
+					t.Fatalf("%d bits: the one %d stands at %d, not %d", len(bits), ones, got, k)
+				}
+				ones++
+			} else {
+				if got := row.Zero(zeros); got != k {
+					t.Fatalf("%d bits: the nought %d stands at %d, not %d", len(bits), zeros, got, k)
+				}
+				zeros++
+			}
+		}
+		if got := row.Ahead(len(bits)); got != ones {
+			t.Errorf("%d bits: %d ones in all, not %d", len(bits), got, ones)
+		}
+		if got := row.One(ones); got < len(bits) {
+			t.Errorf("%d bits: a one at %d that is not there", len(bits), got)
+		}
+		if got := row.Zero(zeros); got < len(bits) {
+			t.Errorf("%d bits: a nought at %d that is not there", len(bits), got)
+		}
 	}
 }

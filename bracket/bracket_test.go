@@ -9,7 +9,7 @@ import (
 	"strata/bitrow"
 )
 
-func TestRowExamples(t *testing.T) {
+func TestBytesExamples(t *testing.T) {
 	for _, c := range []struct {
 		values []uint64
 		want   []byte
@@ -23,7 +23,7 @@ func TestRowExamples(t *testing.T) {
 		{[]uint64{1, 2, 3, 0}, []byte{7 + 64}},
 		{[]uint64{1 << 63, 1}, []byte{5}},
 	} {
-		if got := Row(c.values).Bytes(); !bytes.Equal(got, c.want) {
+		if got := Of(c.values).Bytes(); !bytes.Equal(got, c.want) {
 			t.Errorf("brackets of %v = %v, want %v", c.values, got, c.want)
 		}
 	}
@@ -45,7 +45,7 @@ func byPlaces(values []uint64) []byte {
 	return bitrow.Of(row).Bytes()
 }
 
-func TestRowDrawn(t *testing.T) {
+func TestBytesDrawn(t *testing.T) {
 	r := rand.New(rand.NewSource(4))
 	for round := range 200 {
 		values := make([]uint64, r.Intn(201))
@@ -53,11 +53,33 @@ func TestRowDrawn(t *testing.T) {
 			values[i] = r.Uint64() >> (63 - round%64)
 		}
 		was := slices.Clone(values)
-		if got := Row(values).Bytes(); !bytes.Equal(got, byPlaces(values)) {
+		if got := Of(values).Bytes(); !bytes.Equal(got, byPlaces(values)) {
 			t.Fatalf("brackets of %v = %v", values, got)
 		}
 		if !slices.Equal(values, was) {
 			t.Fatalf("the values were written into: %v, not %v", values, was)
+		}
+	}
+}
+
+func TestLeast(t *testing.T) {
+	r := rand.New(rand.NewSource(9))
+	for round := range 128 {
+		values := make([]uint64, 1+r.Intn(70))
+		for i := range values {
+			values[i] = r.Uint64() >> (63 - round%64)
+		}
+		b := Of(values)
+		for l := range values {
+			want := l
+			for r := l + 1; r <= len(values); r++ {
+				if values[r-1] < values[want] {
+					want = r - 1
+				}
+				if got := b.Least(l, r); got != want {
+					t.Fatalf("of %v the least in [%d, %d) is at %d, not %d", values, l, r, got, want)
+				}
+			}
 		}
 	}
 }

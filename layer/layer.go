@@ -8,17 +8,16 @@ import (
 	"strata/bitrow"
 )
 
-// Width tells how many bits the greatest value has.
-func Width(values []uint64) int {
-	all := uint64(0)
-	for _, v := range values {
-		all |= v
-	}
-	return bits.Len64(all)
+// Layers are the layers of n values, one behind the other in one row.
+type Layers struct {
+	row   bitrow.Row
+	width int
+	n     int
 }
 
-// Row gives the layers of values of so many bits, one behind the other.
-func Row(values []uint64, width int) bitrow.Row {
+// Of makes the layers of the values.
+func Of(values []uint64) Layers {
+	width := widthOf(values)
 	row := make([]bool, 0, width*len(values))
 	order := slices.Clone(values)
 	down(width, func(bit int) {
@@ -27,15 +26,16 @@ func Row(values []uint64, width int) bitrow.Row {
 		}
 		order = parted(order, bit)
 	})
-	return bitrow.Of(row)
+	return Layers{row: bitrow.Of(row), width: width, n: len(values)}
 }
 
-// down goes from the first layer to the last and leaves to a closure what is
-// done there, so that there is one way down, whatever is wanted on it.
-func down(width int, at func(bit int)) {
-	for bit := width - 1; bit >= 0; bit-- {
-		at(bit)
+// widthOf tells how many bits the greatest value has.
+func widthOf(values []uint64) int {
+	all := uint64(0)
+	for _, v := range values {
+		all |= v
 	}
+	return bits.Len64(all)
 }
 
 // parted gives the values with a 0 at the bit, then those with a 1.
@@ -55,3 +55,20 @@ func parted(order []uint64, bit int) []uint64 {
 func has(v uint64, bit int) bool {
 	return v>>bit&1 == 1
 }
+
+// down goes from the first layer to the last and leaves to a closure what is
+// done there, so that there is one way down, whatever is wanted on it.
+func down(width int, at func(bit int)) {
+	for bit := width - 1; bit >= 0; bit-- {
+		at(bit)
+	}
+}
+
+// Len tells how many values there are.
+func (y Layers) Len() int { return y.n }
+
+// Width tells how many layers there are.
+func (y Layers) Width() int { return y.width }
+
+// Bytes gives the layers as bytes.
+func (y Layers) Bytes() []byte { return y.row.Bytes() }

@@ -26,25 +26,24 @@ func TestWidth(t *testing.T) {
 		{[]uint64{1 << 63, 1}, 64},
 		{[]uint64{math.MaxUint64}, 64},
 	} {
-		if got := Width(c.values); got != c.want {
-			t.Errorf("Width(%v) = %d, want %d", c.values, got, c.want)
+		if got := Of(c.values).Width(); got != c.want {
+			t.Errorf("the width of %v = %d, want %d", c.values, got, c.want)
 		}
 	}
 }
 
-func TestRowExamples(t *testing.T) {
+func TestBytesExamples(t *testing.T) {
 	for _, c := range []struct {
 		values []uint64
-		width  int
 		want   []byte
 	}{
-		{nil, 0, nil},
-		{[]uint64{0, 0, 0}, 0, nil},
-		{[]uint64{5, 2, 5}, 3, []byte{205, 0}},
-		{[]uint64{1 << 63}, 64, []byte{1, 0, 0, 0, 0, 0, 0, 0}},
-		{[]uint64{1}, 1, []byte{1}},
+		{nil, nil},
+		{[]uint64{0, 0, 0}, nil},
+		{[]uint64{5, 2, 5}, []byte{205, 0}},
+		{[]uint64{1 << 63}, []byte{1, 0, 0, 0, 0, 0, 0, 0}},
+		{[]uint64{1}, []byte{1}},
 	} {
-		if got := Row(c.values, c.width).Bytes(); !bytes.Equal(got, c.want) {
+		if got := Of(c.values).Bytes(); !bytes.Equal(got, c.want) {
 			t.Errorf("layers of %v = %v, want %v", c.values, got, c.want)
 		}
 	}
@@ -66,7 +65,7 @@ func bySorting(values []uint64, width int) []byte {
 	return bitrow.Of(row).Bytes()
 }
 
-func TestRowDrawn(t *testing.T) {
+func TestBytesDrawn(t *testing.T) {
 	r := rand.New(rand.NewSource(3))
 	for round := range 260 {
 		values := make([]uint64, r.Intn(201))
@@ -74,8 +73,8 @@ func TestRowDrawn(t *testing.T) {
 			values[i] = r.Uint64() >> (round % 65)
 		}
 		was := slices.Clone(values)
-		width := Width(values)
-		if got := Row(values, width).Bytes(); !bytes.Equal(got, bySorting(values, width)) {
+		y := Of(values)
+		if got := y.Bytes(); !bytes.Equal(got, bySorting(values, y.Width())) {
 			t.Fatalf("layers of %v = %v", values, got)
 		}
 		if !slices.Equal(values, was) {

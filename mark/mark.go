@@ -1,7 +1,19 @@
 // Package mark: the marked places, their low bits apart from their high ones.
 package mark
 
-import "strata/bitrow"
+import (
+	"sort"
+
+	"strata/bitrow"
+)
+
+// Marks are m marks: the lowest q bits of each, then a row in which the one of
+// each mark has its other bits as noughts ahead of it.
+type Marks struct {
+	row bitrow.Row
+	m   int
+	q   int
+}
 
 // Fit tells whether the marks are places of a row of n values, each above the one ahead of it.
 func Fit(marks []int, n int) bool {
@@ -15,20 +27,21 @@ func Fit(marks []int, n int) bool {
 	return true
 }
 
-// Row gives the bits of marks that fit a row of n values.
-func Row(marks []int, n int) bitrow.Row {
-	q := lowBits(len(marks), n)
-	row := make([]bool, 0, len(marks)*q)
+// Of keeps marks that fit a row of n values.
+func Of(marks []int, n int) Marks {
+	m := len(marks)
+	q := lowBits(m, n)
+	row := make([]bool, 0, m*q)
 	for _, p := range marks {
 		for bit := range q {
 			row = append(row, p>>bit&1 == 1)
 		}
 	}
-	high := make([]bool, len(marks)+n>>q+1)
+	high := make([]bool, m+n>>q+1)
 	for i, p := range marks {
 		high[p>>q+i] = true
 	}
-	return bitrow.Of(append(row, high...))
+	return Marks{row: bitrow.Of(append(row, high...)), m: m, q: q}
 }
 
 // lowBits gives q, the greatest number with 2^q times m at most n. It halves n
@@ -42,4 +55,41 @@ func lowBits(m int, n int) int {
 		q++
 	}
 	return q
+}
+
+// Len tells how many marks there are.
+func (s Marks) Len() int { return s.m }
+
+// Bytes gives the marks as bytes.
+func (s Marks) Bytes() []byte { return s.row.Bytes() }
+
+// Before gives the greatest mark that is p or less, and whether there is one.
+func (s Marks) Before(p int) (int, bool) {
+	return s.at(sort.Search(s.m, func(i int) bool { return s.place(i) > p }) - 1)
+}
+
+// After gives the least mark that is p or more, and whether there is one.
+func (s Marks) After(p int) (int, bool) {
+	return s.at(sort.Search(s.m, func(i int) bool { return s.place(i) >= p }))
+}
+
+// at gives the mark numbered i, and whether there is one.
+func (s Marks) at(i int) (int, bool) {
+	if i < 0 || i >= s.m {
+		return 0, false
+	}
+	return s.place(i), true
+}
+
+// place gives the mark numbered i, of those that there are.
+func (s Marks) place(i int) int {
+	start := s.m * s.q
+	high := s.row.One(s.row.Ahead(start)+i) - start - i
+	p := high << s.q
+	for bit := range s.q {
+		if s.row.Bit(i*s.q + bit) {
+			p |= 1 << bit
+		}
+	}
+	return p
 }

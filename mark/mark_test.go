@@ -51,7 +51,7 @@ func TestLowBits(t *testing.T) {
 	}
 }
 
-func TestRowExamples(t *testing.T) {
+func TestBytesExamples(t *testing.T) {
 	for _, c := range []struct {
 		marks []int
 		n     int
@@ -71,7 +71,7 @@ func TestRowExamples(t *testing.T) {
 		// q is 6: twice six bits, then 2 + 3 + 1, of which 0 and 3 + 1 are 1.
 		{[]int{0, 199}, 200, []byte{7 << 6 & 255, 7>>2 + 1<<4, 1}},
 	} {
-		if got := Row(c.marks, c.n).Bytes(); !bytes.Equal(got, c.want) {
+		if got := Of(c.marks, c.n).Bytes(); !bytes.Equal(got, c.want) {
 			t.Errorf("marks %v of %d = %v, want %v", c.marks, c.n, got, c.want)
 		}
 	}
@@ -101,7 +101,7 @@ func readBack(row []byte, n int, m int) ([]int, int) {
 	return marks, count
 }
 
-func TestRowDrawn(t *testing.T) {
+func TestBytesDrawn(t *testing.T) {
 	r := rand.New(rand.NewSource(5))
 	for round := range 600 {
 		n := r.Intn(201)
@@ -112,7 +112,7 @@ func TestRowDrawn(t *testing.T) {
 			}
 		}
 		was := slices.Clone(marks)
-		row := Row(marks, n).Bytes()
+		row := Of(marks, n).Bytes()
 		got, count := readBack(row, n, len(marks))
 		if len(row) != (count+7)/8 || !slices.Equal(got, was) {
 			t.Fatalf("marks %v of %d = %v: that is %v", was, n, row, got)
@@ -122,6 +122,56 @@ func TestRowDrawn(t *testing.T) {
 		}
 		if !slices.Equal(marks, was) {
 			t.Fatalf("the marks were written into: %v, not %v", marks, was)
+		}
+	}
+}
+
+func TestBeforeAndAfter(t *testing.T) {
+	r := rand.New(rand.NewSource(10))
+	for round := range 300 {
+		n := 1 + r.Intn(200)
+		var marks []int
+		for p := range n {
+			if r.Intn(1+round%60) == 0 {
+				marks = append(marks, p)
+			}
+		}
+		s := Of(marks, n)
+		if s.Len() != len(marks) {
+			t.Fatalf("marks %v: %d of them", marks, s.Len())
+		}
+		about := []int{math.MinInt, math.MinInt + 1, -1, n, n + 1, 1 << 32, math.MaxInt}
+		for p := range n {
+			about = append(about, p)
+		}
+		for _, p := range about {
+			i, there := slices.BinarySearch(marks, p)
+			wantPlace(t, marks, p, i, s.After)
+			if !there {
+				i--
+			}
+			wantPlace(t, marks, p, i, s.Before)
+		}
+	}
+}
+
+// wantPlace: the mark numbered i, or none.
+func wantPlace(t *testing.T, marks []int, p int, i int, ask func(int) (int, bool)) {
+	t.Helper()
+	want, there := 0, i >= 0 && i < len(marks)
+	if there {
+		want = marks[i]
+	}
+	if got, ok := ask(p); got != want || ok != there {
+		t.Fatalf("marks %v at %d: %d, %v, not %d, %v", marks, p, got, ok, want, there)
+	}
+}
+
+func TestNoMarks(t *testing.T) {
+	for _, s := range []Marks{Of(nil, 0), Of(nil, 200), {}} {
+		for _, p := range []int{math.MinInt, -1, 0, 1, math.MaxInt} {
+			wantPlace(t, nil, p, 0, s.Before)
+			wantPlace(t, nil, p, 0, s.After)
 		}
 	}
 }
