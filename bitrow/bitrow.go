@@ -26,6 +26,20 @@ func Of(row []bool) Row {
 	return Row{words: words, ahead: counted(words), length: len(row)}
 }
 
+// Read makes a row of the length that is said of its bytes, of which there are
+// Size. What is left of the last byte is not the row's, and is not kept.
+func Read(data []byte, length int) Row {
+	words := make([]uint64, length/wordBits+1)
+	for k, b := range data {
+		words[k/8] |= uint64(b) << (k % 8 * 8)
+	}
+	words[length/wordBits] &= 1<<(length%wordBits) - 1
+	return Row{words: words, ahead: counted(words), length: length}
+}
+
+// Size tells how many bytes a row of that length has.
+func Size(length int) int { return (length + 7) / 8 }
+
 // counted gives how many ones stand ahead of each word.
 func counted(words []uint64) []int {
 	ahead := make([]int, len(words))
@@ -39,7 +53,7 @@ func counted(words []uint64) []int {
 
 // Bytes gives the row as bytes, in new memory.
 func (r Row) Bytes() []byte {
-	out := make([]byte, (r.length+7)/8)
+	out := make([]byte, Size(r.length))
 	for k := range out {
 		out[k] = byte(r.words[k/8] >> (k % 8 * 8))
 	}

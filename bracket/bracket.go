@@ -25,6 +25,9 @@ func Of(values []uint64) Brackets {
 	return Brackets{row: bitrow.Of(row)}
 }
 
+// Size tells how many bytes the brackets of n values have.
+func Size(n int) int { return bitrow.Size(2 * n) }
+
 // Bytes gives the brackets as bytes.
 func (b Brackets) Bytes() []byte { return b.row.Bytes() }
 

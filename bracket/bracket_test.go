@@ -83,3 +83,11 @@ func TestLeast(t *testing.T) {
 		}
 	}
 }
+
+func TestSize(t *testing.T) {
+	for n := range 201 {
+		if got, want := Size(n), len(Of(make([]uint64, n)).Bytes()); got != want {
+			t.Errorf("the brackets of %d values have %d bytes, not %d", n, got, want)
+		}
+	}
+}

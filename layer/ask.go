@@ -17,6 +17,15 @@ func (y Layers) Nth(l int, r int, k int) uint64 {
 	return v
 }
 
+// Values gives all values, in the order of the row.
+func (y Layers) Values() []uint64 {
+	values := make([]uint64, y.n)
+	for i := range values {
+		values[i] = y.Nth(i, i+1, 0)
+	}
+	return values
+}
+
 // Against tells how many values of the part [l, r) are less than v, and how
 // many are v. It takes no v + 1 or v - 1, so that no number runs over.
 func (y Layers) Against(l int, r int, v uint64) (less int, equal int) {

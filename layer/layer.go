@@ -29,6 +29,15 @@ func Of(values []uint64) Layers {
 	return Layers{row: bitrow.Of(row), width: width, n: len(values)}
 }
 
+// Read makes layers of their bytes, of which there are Size. All bits will do:
+// any of them are the layers of some values, if maybe of narrower ones.
+func Read(data []byte, width int, n int) Layers {
+	return Layers{row: bitrow.Read(data, width*n), width: width, n: n}
+}
+
+// Size tells how many bytes the layers of n values have.
+func Size(width int, n int) int { return bitrow.Size(width * n) }
+
 // widthOf tells how many bits the greatest value has.
 func widthOf(values []uint64) int {
 	all := uint64(0)

@@ -82,3 +82,46 @@ func TestBytesDrawn(t *testing.T) {
 		}
 	}
 }
+
+func TestRead(t *testing.T) {
+	r := rand.New(rand.NewSource(22))
+	for round := range 130 {
+		values := make([]uint64, r.Intn(201))
+		for i := range values {
+			values[i] = r.Uint64() >> (round % 65)
+		}
+		y := Of(values)
+		data := y.Bytes()
+		if got := Size(y.Width(), y.Len()); got != len(data) {
+			t.Fatalf("%d layers of %d have %d bytes, not %d", y.Width(), y.Len(), got, len(data))
+		}
+		z := Read(data, y.Width(), y.Len())
+		clear(data)
+		if z.Width() != y.Width() || z.Len() != y.Len() || !bytes.Equal(z.Bytes(), y.Bytes()) {
+			t.Fatalf("layers of %v are read as %v", values, z)
+		}
+		if got := z.Values(); !slices.Equal(got, values) {
+			t.Fatalf("layers of %v have the values %v", values, got)
+		}
+	}
+}
+
+// TestReadAnyBits: the layers of all that they can be, of which none is
+// another's, though the values may be narrower than there are layers.
+func TestReadAnyBits(t *testing.T) {
+	const width, n = 3, 4
+	seen := map[[n]uint64]int{}
+	for bits := range 1 << (width * n) {
+		values := Read([]byte{byte(bits), byte(bits >> 8)}, width, n).Values()
+		if slices.Max(values) >= 1<<width {
+			t.Fatalf("the bits %b have the values %v", bits, values)
+		}
+		seen[[n]uint64(values)]++
+	}
+	if len(seen) != 1<<(width*n) {
+		t.Errorf("of all bits come %d rows of values", len(seen))
+	}
+	if got := Read(nil, 64, 0).Values(); len(got) != 0 {
+		t.Errorf("layers of no values have %v", got)
+	}
+}

@@ -37,11 +37,30 @@ func Of(marks []int, n int) Marks {
 			row = append(row, p>>bit&1 == 1)
 		}
 	}
-	high := make([]bool, m+n>>q+1)
+	high := make([]bool, highBits(m, n))
 	for i, p := range marks {
 		high[p>>q+i] = true
 	}
 	return Marks{row: bitrow.Of(append(row, high...)), m: m, q: q}
+}
+
+// Read makes m marks of their bytes, of which there are Size. Not all bits are
+// those of marks: what Places gives need not fit, nor be written so.
+func Read(data []byte, m int, n int) Marks {
+	return Marks{row: bitrow.Read(data, length(m, n)), m: m, q: lowBits(m, n)}
+}
+
+// Size tells how many bytes m marks of a row of n values have.
+func Size(m int, n int) int { return bitrow.Size(length(m, n)) }
+
+// length tells how many bits the marks have in all.
+func length(m int, n int) int {
+	return m*lowBits(m, n) + highBits(m, n)
+}
+
+// highBits tells how many bits stand behind the lowest ones of all marks.
+func highBits(m int, n int) int {
+	return m + n>>lowBits(m, n) + 1
 }
 
 // lowBits gives q, the greatest number with 2^q times m at most n. It halves n
@@ -62,6 +81,15 @@ func (s Marks) Len() int { return s.m }
 
 // Bytes gives the marks as bytes.
 func (s Marks) Bytes() []byte { return s.row.Bytes() }
+
+// Places gives all marks, in their order.
+func (s Marks) Places() []int {
+	places := make([]int, s.m)
+	for i := range places {
+		places[i] = s.place(i)
+	}
+	return places
+}
 
 // Before gives the greatest mark that is p or less, and whether there is one.
 func (s Marks) Before(p int) (int, bool) {

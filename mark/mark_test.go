@@ -175,3 +175,49 @@ func TestNoMarks(t *testing.T) {
 		}
 	}
 }
+
+func TestRead(t *testing.T) {
+	r := rand.New(rand.NewSource(23))
+	for n := range 201 {
+		for range 10 {
+			marks := r.Perm(n)[:r.Intn(n+1)]
+			slices.Sort(marks)
+			m := len(marks)
+			data := Of(marks, n).Bytes()
+			was := bytes.Clone(data)
+			if got := Size(m, n); got != len(data) {
+				t.Fatalf("%d marks of %d have %d bytes, not %d", m, n, got, len(data))
+			}
+			s := Read(data, m, n)
+			clear(data)
+			if s.Len() != m || !bytes.Equal(s.Bytes(), was) {
+				t.Fatalf("marks %v of %d are read as %v", marks, n, s)
+			}
+			if got := s.Places(); !slices.Equal(got, marks) {
+				t.Fatalf("marks %v of %d are read as %v", marks, n, got)
+			}
+		}
+	}
+}
+
+// TestReadAnyBits: if there are fewer ones than marks, the places that are
+// missing are none of the row; all bits are read without a panic.
+func TestReadAnyBits(t *testing.T) {
+	r := rand.New(rand.NewSource(24))
+	for n := 1; n <= 200; n++ {
+		for _, m := range []int{1, 1 + r.Intn(n), n} {
+			data := make([]byte, Size(m, n))
+			if places := Read(data, m, n).Places(); Fit(places, n) || len(places) != m {
+				t.Fatalf("%d marks of %d without ones are read as %v", m, n, places)
+			}
+			for range 20 {
+				r.Read(data)
+				Read(data, m, n).Places()
+			}
+			for i := range data {
+				data[i] = 255
+			}
+			Read(data, m, n).Places()
+		}
+	}
+}

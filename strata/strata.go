@@ -53,6 +53,3 @@ func (x *Index) head() []byte {
 	out := append([]byte(magic), api.Version, byte(x.layers.Width()))
 	return append(out, byte(n), byte(n>>8), byte(m), byte(m>>8))
 }
-
-// Load makes an index of bytes (P5).
-func Load(data []byte) (*Index, api.Errno) { return nil, api.OK }

@@ -71,3 +71,29 @@ func TestAppendWith(t *testing.T) {
 		t.Errorf("AppendWith of nothing = %v", got)
 	}
 }
+
+func TestApart(t *testing.T) {
+	for _, data := range []string{"", "\x00", "\xff\xff\xff\xff", "123456789"} {
+		both := AppendWith(nil, []byte(data))
+		if len(both) != len(data)+Size {
+			t.Errorf("with its sum %q has %d bytes", data, len(both))
+		}
+		if got, right := Apart(both); !right || string(got) != data {
+			t.Errorf("Apart of %v = %v, %v", both, got, right)
+		}
+		for bit := range 8 * len(both) {
+			both[bit/8] ^= 1 << (bit % 8)
+			was := bytes.Clone(both)
+			if got, right := Apart(both); right || !bytes.Equal(got, was[:len(data)]) {
+				t.Errorf("Apart of %v = %v, %v", was, got, right)
+			}
+			if !bytes.Equal(both, was) {
+				t.Errorf("Apart made %v of %v", both, was)
+			}
+			both[bit/8] ^= 1 << (bit % 8)
+		}
+	}
+	if _, right := Apart(make([]byte, Size+1)); right {
+		t.Errorf("noughts are their own sum")
+	}
+}
